@@ -1,0 +1,1 @@
+"""Pileworn: a pile of plates, for all that is taken."""
