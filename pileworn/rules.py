@@ -1,17 +1,10 @@
 """Rules: rows of words that tell how a pile of plates is led."""
 
+from pileworn.days import read_day
 from pileworn.errors import InvalidNumber, InvalidRows, InvalidText
 from pileworn.kinds import integer_within
-from pileworn.limits import MOST_AWAY, MOST_DAYS, MOST_PLATES, MOST_TAKEN, MOST_UNDER
-
-
-def read_number(word, least, most):
-    """The integer from least to most that is written as this word, None if there is none."""
-    for number in range(least, most + 1):
-        # Comparing with the written number keeps signs, needless zeros and foreign digits out.
-        if word == str(number):
-            return number
-    return None
+from pileworn.limits import MOST_AWAY, MOST_DAYS, MOST_PLATES
+from pileworn.words import read_number
 
 
 def read_first(row):
@@ -28,35 +21,6 @@ def read_first(row):
     return (plates, away)
 
 
-def is_where(words):
-    """Whether the words tell where a heap comes back."""
-    if len(words) == 2:
-        return words[0] == "under" and read_number(words[1], 1, MOST_UNDER) is not None
-    return words == ["top"] or words == ["bottom"]
-
-
-def is_take(words):
-    """Whether the words are those of the row of a day that takes."""
-    if len(words) < 7 or words[0] != "take" or words[2] != "to" or words[4] != "back":
-        return False
-    least = read_number(words[1], 0, MOST_TAKEN)
-    if least is None or read_number(words[3], least, MOST_TAKEN) is None:
-        return False
-    return is_where(words[5:-1]) and words[-1] in ("kept", "turned")
-
-
-def is_day(row):
-    """Whether the value is the row of a day."""
-    if not isinstance(row, str):
-        return False
-    words = row.split(" ")
-    if len(words) == 1:
-        return row in ("turn", "rest")
-    if len(words) == 2:
-        return words[0] == "cut" and read_number(words[1], 1, MOST_UNDER) is not None
-    return is_take(words)
-
-
 class Rule:
     """A rule: its first row tells the plates, each other one is the row of a day."""
 
@@ -66,12 +30,13 @@ class Rule:
         first = read_first(rows[0])
         if first is None:
             raise InvalidRows(0)
-        for index in range(1, len(rows)):
-            if not is_day(rows[index]):
-                raise InvalidRows(index)
+        days = [read_day(row) for row in rows[1:]]
+        if None in days:
+            raise InvalidRows(days.index(None) + 1)
         self._rows = rows
-        self._days = rows[1:]
         self._plates, self._away = first
+        # What the rows of days tell, for the modules that go through them.
+        self.days = tuple(days)
 
     @classmethod
     def read(cls, text):
@@ -114,7 +79,7 @@ class Rule:
         return Rule(*rows)
 
     def __len__(self):
-        return len(self._days)
+        return len(self.days)
 
     def __eq__(self, other):
         return isinstance(other, Rule) and self._rows == other._rows
@@ -123,4 +88,4 @@ class Rule:
         return "\n".join(self._rows)
 
     def __repr__(self):
-        return f"Rule of {len(self._days)} days"
+        return f"Rule of {len(self.days)} days"

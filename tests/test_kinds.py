@@ -1,6 +1,6 @@
 import unittest
 
-from pileworn.kinds import integer_within
+from pileworn.kinds import integer_within, is_integer
 from tests.values import of_all_kinds
 
 
@@ -17,6 +17,7 @@ class KindsTest(unittest.TestCase):
 
     def test_values_of_other_kinds(self):
         for value in of_all_kinds():
+            self.assertIs(is_integer(value), value.__class__ is int, value)
             expected = value.__class__ is int and 0 <= value <= 5
             self.assertIs(integer_within(value, 0, 5), expected, value)
 

@@ -3,6 +3,7 @@ import unittest.mock
 
 from pileworn.errors import InvalidNumber, InvalidRows, InvalidText
 from pileworn.rules import Rule
+from tests.cases import RaisingTestCase
 from tests.values import of_all_kinds
 
 FIRST = "plates 3 away 0"
@@ -47,14 +48,7 @@ def with_numbers_wrong(form):
     return [form.replace("#", number) for number in wrong + FOREIGN["1"]]
 
 
-class RuleTestCase(unittest.TestCase):
-    def assert_raised(self, error, attribute, value, function, *given, **named):
-        with self.assertRaises(error) as caught:
-            function(*given, **named)
-        self.assertIs(caught.exception.__class__, error)
-        self.assertEqual(vars(caught.exception), {attribute: value})
-        self.assertIs(getattr(caught.exception, attribute).__class__, value.__class__)
-
+class RuleTestCase(RaisingTestCase):
     def assert_no_first(self, row):
         self.assert_raised(InvalidRows, "index", 0, Rule, row, TAKE)
 

@@ -1,0 +1,45 @@
+"""The names, the parameters and the files that the document's interface lists."""
+
+import importlib
+import inspect
+import unittest
+
+FUNCTIONS = {
+    "piles": ["led(rule, choices)", "course(rule, choices)", "uses(rule, choices)", "rests(rule, plate, choices)",
+              "lead_in(rule, plate, mate, choices)"],
+    "far": ["led_rounds(rule, choices, rounds)", "uses_rounds(rule, choices, rounds)"],
+    "asking": ["runs_out(rule)", "first_use(rule, plate)", "longest_rest(rule, plate)", "lead(rule, plate, mate)",
+               "worn(rule)", "soonest_lead(rule, plate, mate, by)", "shares(rule, plate)", "places(rule, plate)",
+               "tops(rule)", "how_many(rule, days)", "parting(one, other)"],
+}
+CLASSES = {
+    "rules": {"Rule(*rows)": ["with_row(self, index, row)"]},
+    "piles": {"Pile(rule)": ["day(self, number)", "undo(self)"]},
+}
+
+
+def module(name):
+    return importlib.import_module("pileworn." + name)
+
+
+class InterfaceTest(unittest.TestCase):
+    def test_functions(self):
+        for name, listed in FUNCTIONS.items():
+            for text in listed:
+                function = vars(module(name))[text.split("(")[0]]
+                self.assertEqual(function.__name__ + str(inspect.signature(function)), text)
+                self.assertEqual(function.__module__, "pileworn." + name)
+
+    def test_classes_and_their_methods(self):
+        for name, classes in CLASSES.items():
+            for text, methods in classes.items():
+                made = vars(module(name))[text.split("(")[0]]
+                self.assertEqual(made.__name__ + str(inspect.signature(made)), text)
+                self.assertEqual(made.__module__, "pileworn." + name)
+                for listed in methods:
+                    method = vars(made)[listed.split("(")[0]]
+                    self.assertEqual(method.__name__ + str(inspect.signature(method)), listed)
+
+
+if __name__ == "__main__":
+    unittest.main()
