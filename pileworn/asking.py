@@ -2,10 +2,9 @@
 
 from math import gcd
 
-from pileworn.checks import check_mate, check_plate, check_rule
+from pileworn.checks import check_mate, check_plate, check_rule, check_within
 from pileworn.climbs import Climb, days_to_height, end_of_climb, greatest_height, marks_of_round
-from pileworn.errors import InvalidNumber, RunsOut
-from pileworn.kinds import integer_within
+from pileworn.errors import RunsOut
 from pileworn.pairs import way_to_parting
 from pileworn.webs import choices_along, steps_from, steps_of_one, steps_of_two, web_of
 
@@ -81,8 +80,7 @@ def soonest_lead(rule, plate, mate, by):
     check_rule(rule)
     check_plate(rule, plate)
     check_mate(rule, plate, mate)
-    if not integer_within(by, 1, 9):
-        raise InvalidNumber(by)
+    check_within(by, 1, 9)
     starts = [(0, plate, mate)]
     steps = steps_from(endless_web(rule), starts, steps_of_two)
     return days_to_height(Climb(steps, starts, 1, 0), by)
@@ -135,8 +133,7 @@ def tops(rule):
 def how_many(rule, days):
     """The number of tuples of choices for so many days."""
     check_rule(rule)
-    if not integer_within(days, 0, 400):
-        raise InvalidNumber(days)
+    check_within(days, 0, 400)
     web = web_of(rule)
     counts = [1] * len(web.standings)
     # Behind each run of the loop they are the numbers of choices for one day more from each standing on.

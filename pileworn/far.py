@@ -1,8 +1,7 @@
 """Piles behind great numbers of rounds of choices."""
 
-from pileworn.checks import check_choices, check_rule
-from pileworn.errors import InvalidNumber, NotRound
-from pileworn.kinds import is_integer
+from pileworn.checks import check_at_least, check_choices, check_rule
+from pileworn.errors import NotRound
 from pileworn.piles import led, uses
 
 
@@ -10,8 +9,7 @@ def check_rounds(rule, choices, rounds):
     """Raises what is wrong with these choices, or with so many rounds of them."""
     check_rule(rule)
     check_choices(rule, choices)
-    if not is_integer(rounds) or rounds < 0:
-        raise InvalidNumber(rounds)
+    check_at_least(rounds, 0)
     if rule.away != 0 or len(choices) % len(rule) != 0:
         raise NotRound(choices)
 

@@ -62,6 +62,28 @@ def walk(rule, choices):
     return tuple(used), state
 
 
+def greatest_share(days, gain):
+    """The greatest mean gain of a round of states, by Karp's theorem; days are the pairs (used, behind) of each state."""
+    many = len(days)
+    rows = [dict.fromkeys(days, 0)]
+    for _ in range(many):
+        row = {}
+        for state in rows[-1]:
+            for used, behind in days[state]:
+                reached = rows[-1][state] + gain(used)
+                row[behind] = max(reached, row.get(behind, reached))
+        rows.append(row)
+    return max(min(Fraction(rows[many][state] - rows[day][state], many - day)
+                   for day in range(many) if state in rows[day]) for state in rows[many])
+
+
+def shares(days, plate):
+    """The least and the greatest share of the plate, as pairs."""
+    least = -greatest_share(days, lambda used: -int(plate in used))
+    greatest = greatest_share(days, lambda used: int(plate in used))
+    return ((least.numerator, least.denominator), (greatest.numerator, greatest.denominator))
+
+
 class Search:
     """All states that come behind choices, with their days; for each the least number of days to it."""
 
@@ -128,24 +150,8 @@ class Search:
             best = beyond
         return None
 
-    def greatest_share(self, gain):
-        """The greatest mean gain of a round of states, by Karp's theorem."""
-        many = len(self.days)
-        rows = [dict.fromkeys(self.days, 0)]
-        for _ in range(many):
-            row = {}
-            for state, used, behind in self.steps:
-                if state in rows[-1]:
-                    reached = rows[-1][state] + gain(used)
-                    row[behind] = max(reached, row.get(behind, reached))
-            rows.append(row)
-        return max(min(Fraction(rows[many][state] - rows[day][state], many - day)
-                       for day in range(many) if state in rows[day]) for state in rows[many])
-
     def shares(self, plate):
-        least = -self.greatest_share(lambda used: -int(plate in used))
-        greatest = self.greatest_share(lambda used: int(plate in used))
-        return ((least.numerator, least.denominator), (greatest.numerator, greatest.denominator))
+        return shares(self.days, plate)
 
     def places(self, plate):
         return tuple(sorted({pile.index(plate) for _, pile, _ in self.days if plate in pile}))

@@ -5,11 +5,8 @@ from pileworn.asking import (
 from pileworn.errors import InvalidNumber, InvalidPlate, NotARule, RunsOut
 from pileworn.piles import lead_in, led, uses
 from pileworn.rules import Rule
-from tests.cases import NEVER, OUT, UNDER, WHEEL, RaisingTestCase
-from tests.values import of_all_kinds
+from tests.cases import NEVER, NO_INTEGERS, NO_RULES, OUT, UNDER, WHEEL, RaisingTestCase
 
-NO_RULES = [value for value in of_all_kinds() if not isinstance(value, Rule)] + [WHEEL.rows, WHEEL.text, [WHEEL]]
-NO_INTEGERS = [value for value in of_all_kinds() if value.__class__ is not int]
 STILL = Rule("plates 2 away 0", "rest")
 SWAPPED = Rule("plates 4 away 0", "take 1 to 3 back bottom turned")
 

@@ -11,6 +11,10 @@ FUNCTIONS = {
     "asking": ["runs_out(rule)", "first_use(rule, plate)", "longest_rest(rule, plate)", "lead(rule, plate, mate)",
                "worn(rule)", "soonest_lead(rule, plate, mate, by)", "shares(rule, plate)", "places(rule, plate)",
                "tops(rule)", "how_many(rule, days)", "parting(one, other)"],
+    "rings": ["ring_uses(n, total, plate)", "ring_rest(n, takes)", "ring_shares(n, takes)",
+              "ring_lead(n, takes, plate, mate)"],
+    "seen": ["choices_seen(rule, days, seen)", "numbers_seen(rule, days, seen)", "standings_seen(rule, days, seen)"],
+    "mends": ["fault(rule, wish)", "mending(rule, exchanges, wishes)"],
 }
 CLASSES = {
     "rules": {"Rule(*rows)": ["with_row(self, index, row)"]},

@@ -5,11 +5,9 @@ from pileworn.errors import InvalidChoices, InvalidNumber, InvalidPlate, NotARul
 from pileworn.piles import Pile, course, lead_in, led, rests, uses
 from pileworn.rules import Rule
 from tests import plain
-from tests.cases import OUT, UNDER, WHEEL, RaisingTestCase
+from tests.cases import NO_INTEGERS, NO_RULES, OUT, UNDER, WHEEL, RaisingTestCase
 from tests.values import of_all_kinds
 
-NO_RULES = [value for value in of_all_kinds() if not isinstance(value, Rule)] + [WHEEL.rows, WHEEL.text, [WHEEL]]
-NO_INTEGERS = [value for value in of_all_kinds() if value.__class__ is not int]
 PROPERTIES = ("rule", "row", "lets", "standing", "heaps", "uses", "changes")
 
 # Rules of all kinds of rows, for which all choices for a few days are gone through.
@@ -460,7 +458,7 @@ class ChoicesErrorsTest(RaisingTestCase):
             self.assert_raised(NotARule, "given", value, rests, value, "x", None)
 
     def test_no_plate(self):
-        for value in [value for value in of_all_kinds() if value.__class__ is not int] + [-1, 3, 10, 10 ** 39, -10 ** 39]:
+        for value in NO_INTEGERS + [-1, 3, 10, 10 ** 39, -10 ** 39]:
             for choices in ((2,), None, (0,)):
                 self.assert_raised(InvalidPlate, "given", value, rests, WHEEL, value, choices)
                 for mate in (0, None, value):
