@@ -3,7 +3,7 @@
 from math import gcd
 
 from pileworn.checks import check_mate, check_plate, check_rule, check_within
-from pileworn.climbs import Climb, days_to_height, end_of_climb, greatest_height, marks_of_round
+from pileworn.climbs import Climb, days_to_height, end_of_climb, greatest_height, steps_of_round
 from pileworn.errors import RunsOut
 from pileworn.pairs import way_to_parting
 from pileworn.webs import choices_along, steps_from, steps_of_one, steps_of_two, web_of
@@ -94,7 +94,7 @@ def extreme_share(steps, share, sign):
         if here is None:
             return share
         # This round leads up, so its share is beyond the one so far.
-        marks = marks_of_round(climb.origins, here)
+        marks = [mark for ahead, mark, number in steps_of_round(climb.origins, here)]
         common = gcd(sum(marks), len(marks))
         share = (sum(marks) // common, len(marks) // common)
 

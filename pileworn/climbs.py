@@ -72,14 +72,12 @@ def standing_in_round(origins):
     return None
 
 
-def marks_of_round(origins, here):
-    """The marks of the steps that lead from this standing round to itself, the last one first."""
-    ahead, mark, _ = origins[here]
-    marks = [mark]
-    while ahead != here:
-        ahead, mark, _ = origins[ahead]
-        marks.append(mark)
-    return marks
+def steps_of_round(origins, here):
+    """The origins (standing ahead, mark, number) that lead from this standing round to itself, the last step first."""
+    steps = [origins[here]]
+    while steps[-1][0] != here:
+        steps.append(origins[steps[-1][0]])
+    return steps
 
 
 def greatest_height(steps, starts, scale, toll):

@@ -102,3 +102,18 @@ def steps_from(web, starts, steps_of):
             found[here] = steps_of(web, here)
             waiting.extend([step[0] for step in found[here]])
     return found
+
+
+def way_to(steps, start, goal):
+    """The numbers chosen on a shortest way from the start to a standing that comes from it, by these steps."""
+    origins = {start: None}
+    front = [start]
+    while goal not in origins:
+        beyond = []
+        for here in front:
+            for behind, _, number in steps[here]:
+                if behind not in origins:
+                    origins[behind] = (here, number)
+                    beyond.append(behind)
+        front = beyond
+    return choices_along(origins, goal)

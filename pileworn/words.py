@@ -8,3 +8,12 @@ def read_number(word, least, most):
         if word == str(number):
             return number
     return None
+
+
+def read_digits(word):
+    """The integer of at least 0 that is written as this word, None if there is none."""
+    if word == "" or [sign for sign in word if sign not in "0123456789"]:
+        return None
+    if word[0] == "0" and len(word) > 1:
+        return None
+    return int(word)

@@ -15,10 +15,23 @@ FUNCTIONS = {
               "ring_lead(n, takes, plate, mate)"],
     "seen": ["choices_seen(rule, days, seen)", "numbers_seen(rule, days, seen)", "standings_seen(rule, days, seen)"],
     "mends": ["fault(rule, wish)", "mending(rule, exchanges, wishes)"],
+    "checker": ["accepts(claim, certificate)"],
+    "certificates": ["certify_runs(rule)", "certify_rest(rule, plate, most)", "certify_lead(rule, plate, mate)",
+                     "certify_reached(rule, plate, mate)"],
 }
 CLASSES = {
     "rules": {"Rule(*rows)": ["with_row(self, index, row)"]},
     "piles": {"Pile(rule)": ["day(self, number)", "undo(self)"]},
+    "desks": {"Desk()": ["put(self, name, rule)", "named(self, name)", "drop(self, name)", "wish(self, wish)",
+                         "lift(self, index)", "undo(self)", "trial(self)", "tried(self, action)", "__len__(self)",
+                         "__bool__(self)"]},
+    "console": {"Console(rule)": ["say(self, line)"]},
+}
+PROPERTIES = {
+    "rules": {"Rule": ["rows", "text", "plates", "away"]},
+    "piles": {"Pile": ["rule", "row", "lets", "standing", "heaps", "uses", "changes"]},
+    "desks": {"Desk": ["names", "wishes", "changes"]},
+    "console": {"Console": ["rule"]},
 }
 
 
@@ -43,6 +56,12 @@ class InterfaceTest(unittest.TestCase):
                 for listed in methods:
                     method = vars(made)[listed.split("(")[0]]
                     self.assertEqual(method.__name__ + str(inspect.signature(method)), listed)
+
+    def test_properties(self):
+        for name, classes in PROPERTIES.items():
+            for made, listed in classes.items():
+                for text in listed:
+                    self.assertIsInstance(vars(vars(module(name))[made])[text], property)
 
 
 if __name__ == "__main__":

@@ -27,6 +27,19 @@ LIBRARY = {
     "collections": {"defaultdict"},
 }
 
+# What may be called as a method of a value of Python's own, without the package having such a method.
+BUILTIN_METHODS = set("""
+    append clear copy count endswith extend find get index insert isalnum isalpha isdigit islower isspace isupper items
+    join keys ljust lower lstrip partition pop remove replace reverse rfind rjust rpartition rsplit rstrip setdefault split
+    splitlines startswith strip update upper values zfill bit_length add discard
+""".split())
+
+# Words that stand in no string and as no name.
+WORDS = set("""
+    register mro elements open input law version_info typing typing_extensions enum Enum IntEnum StrEnum Flag IntFlag Generic
+    Protocol ABC ABCMeta namedtuple NamedTuple TypedDict TYPE_CHECKING abstractmethod eval exec exit globals locals vars
+""".split())
+
 BARRED = (ast.AsyncFunctionDef, ast.Await, ast.Global, ast.Import, ast.Div, ast.MatMult, ast.AsyncFor, ast.AsyncWith)
 
 
@@ -112,6 +125,55 @@ class WordsTest(unittest.TestCase):
             self.assertNotIn(node.name, own, place)
         for place, node in nodes(ast.arg):
             self.assertNotIn(node.arg, own, place)
+
+    def test_no_parameter_or_variable_has_the_name_of_a_class_or_an_import_of_its_file(self):
+        for name, tree in trees():
+            bound = {alias.name for node in tree.body if isinstance(node, ast.ImportFrom) for alias in node.names}
+            bound |= {node.name for node in tree.body if isinstance(node, ast.ClassDef)}
+            for node in ast.walk(tree):
+                if isinstance(node, ast.arg):
+                    self.assertNotIn(node.arg, bound, f"{name}:{node.lineno}")
+                if isinstance(node, ast.Name) and isinstance(node.ctx, (ast.Store, ast.Del)):
+                    self.assertNotIn(node.id, bound, f"{name}:{node.lineno}")
+
+    def test_methods_attributes_and_properties_have_names_of_their_own(self):
+        methods, properties, attributes = set(), set(), set()
+        for _, node in nodes(ast.ClassDef):
+            for part in node.body:
+                if isinstance(part, ast.FunctionDef):
+                    told = [ast.unparse(decorator) for decorator in part.decorator_list]
+                    (properties if told == ["property"] else methods).add(part.name)
+        for _, node in nodes(ast.Attribute):
+            if isinstance(node.ctx, ast.Store):
+                attributes.add(node.attr)
+        methods -= METHODS
+        self.assertEqual(attributes & (methods | properties), set())
+        self.assertEqual((methods | properties | attributes) & (BUILTIN_METHODS - {"index"}), set())
+        for place, node in nodes(ast.Attribute):
+            self.assertIn(node.attr, methods | properties | attributes | BUILTIN_METHODS | METHODS, place)
+        for place, node in nodes(ast.Call):
+            if isinstance(node.func, ast.Attribute):
+                self.assertIn(node.func.attr, methods | BUILTIN_METHODS | METHODS, place)
+
+    def test_no_barred_words(self):
+        for place, node in nodes((ast.Name, ast.Attribute, ast.arg, ast.FunctionDef, ast.ClassDef)):
+            for field in ("id", "attr", "arg", "name"):
+                self.assertNotIn(getattr(node, field, None), WORDS, place)
+
+    def test_no_generators_and_no_errors_of_python_caught(self):
+        for place, node in nodes((ast.Yield, ast.YieldFrom, ast.GeneratorExp)):
+            self.fail((place, node))
+        own = {node.name for name, tree in trees() if name == "errors.py" for node in tree.body if isinstance(node, ast.ClassDef)}
+        for place, node in nodes(ast.ExceptHandler):
+            self.assertIn(ast.unparse(node.type), own, place)
+
+    def test_sets_are_only_asked(self):
+        for name, tree in trees():
+            above = {child: node for node in ast.walk(tree) for child in ast.iter_child_nodes(node)}
+            for node in ast.walk(tree):
+                if isinstance(node, ast.Call) and isinstance(node.func, ast.Name) and node.func.id == "set":
+                    around = above[node]
+                    self.assertTrue(isinstance(around, ast.Assign) or ast.unparse(around.func) in ("sorted", "len"), name)
 
     def test_names_with_two_underscores(self):
         for place, node in nodes(ast.FunctionDef):
