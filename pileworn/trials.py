@@ -30,7 +30,7 @@ class Trial:
         self.shut()
 
     def shut(self):
-        """Goes on with what is held for the rows around."""
+        # What is held for the rows around is the innermost again.
         around = self._around
         self._now = around.now
         self._around = around.around

@@ -63,7 +63,7 @@ def walk(rule, choices):
 
 
 def greatest_share(days, gain):
-    """The greatest mean gain of a round of states, by Karp's theorem; days are the pairs (used, behind) of each state."""
+    """The greatest mean gain of a round, by Karp's theorem; days are the pairs (used, behind) of each state."""
     many = len(days)
     rows = [dict.fromkeys(days, 0)]
     for _ in range(many):

@@ -72,7 +72,8 @@ class CertificatesTest(unittest.TestCase):
                         self.assertTrue(tables.accepts_rests(plate, most, table))
                     else:
                         choices = told[0][3]
-                        self.assertEqual(self.assert_accepted(told, ("rested", str(rule), plate, choices, most + 1)), ())
+                        claim = ("rested", str(rule), plate, choices, most + 1)
+                        self.assertEqual(self.assert_accepted(told, claim), ())
                         last = course(rule, choices)[-most - 1:]
                         self.assertEqual((len(last), [used for used in last if plate in used]), (most + 1, []))
         for word in itertools.product(("rests", "rested"), (0, 1, 2, 3, 99)):
@@ -133,7 +134,7 @@ class EdgesTest(unittest.TestCase):
         for plate, mate in ((0, 9), (9, 0)):
             for told in (certify_runs(TEN), certify_rest(TEN, plate, 99), certify_lead(TEN, plate, mate)):
                 self.assertIs(accepts(*told), True)
-        rule = TEN.with_row(1, "take 1 to 1 back bottom kept").with_row(2, "take 0 to 2 back bottom kept").with_row(3, "rest")
+        rule = Rule(TEN.rows[0], "take 1 to 1 back bottom kept", "take 0 to 2 back bottom kept", "rest")
         for plate, mate in ((0, 9), (9, 0), (4, 5)):
             claim, paper = certify_lead(rule, plate, mate)
             self.assertEqual((claim[0], claim[4], accepts(claim, paper)), ("lead", lead(rule, plate, mate), True))

@@ -16,8 +16,8 @@ SINGLE = WHEEL.with_row(1, "take 1 to 1 back bottom kept")
 PROPERTIES = ("names", "wishes", "changes")
 
 NO_NAMES = [value for value in of_all_kinds() if value not in ("x", "rest")] + [
-    "Blue", "bluE", "blue ", " blue", "blue\n", "bl ue", "blue1", "blue_", "blue-green", "ninechars", "abcdefghi", "`", "{",
-    "\u00e4", "bl\u00fce", "\uff41", ("blue",), ["blue"], b"blue"]
+    "Blue", "bluE", "blue ", " blue", "blue\n", "bl ue", "blue1", "blue_", "blue-green", "ninechars", "abcdefghi", "`",
+    "{", "\u00e4", "bl\u00fce", "\uff41", ("blue",), ["blue"], b"blue"]
 
 
 def told(desk):
@@ -138,8 +138,9 @@ class PlainDeskTest(unittest.TestCase):
                 self.assertEqual(done(desk, word, given), ended, (seed, word, given))
                 self.assert_same(desk, plain)
                 became.append((word, ended and ended[0]))
-        for deed in (("put", None), ("put", Broken), ("wish", None), ("wish", Broken), ("wish", UnknownName), ("drop", None),
-                     ("drop", InUse), ("drop", UnknownName), ("lift", None), ("lift", InvalidNumber), ("undo", None)):
+        for deed in (("put", None), ("put", Broken), ("wish", None), ("wish", Broken), ("wish", UnknownName),
+                     ("drop", None), ("drop", InUse), ("drop", UnknownName), ("lift", None), ("lift", InvalidNumber),
+                     ("undo", None)):
             self.assertGreater(became.count(deed), 10, deed)
         self.assertIn(("undo", NothingToUndo), became)
 
@@ -199,7 +200,8 @@ class DeskTest(RaisingTestCase):
 
     def test_methods_return_none(self):
         desk = Desk()
-        self.assertEqual([desk.put("a", WHEEL), desk.wish(("a", ("runs",))), desk.lift(0), desk.drop("a"), desk.undo()], [None] * 5)
+        told = [desk.put("a", WHEEL), desk.wish(("a", ("runs",))), desk.lift(0), desk.drop("a"), desk.undo()]
+        self.assertEqual(told, [None] * 5)
 
     def test_names_ascending(self):
         desk = Desk()
@@ -234,7 +236,8 @@ class DeskTest(RaisingTestCase):
         desk = Desk()
         desk.put("a", WHEEL)
         desk.put("b", WHEEL)
-        for wish in (("b", ("worn", 1)), ("a", ("rest", 1, 5)), ("a", ("worn", 3)), ("alike", "a", "b"), ("a", ("runs",))):
+        for wish in (("b", ("worn", 1)), ("a", ("rest", 1, 5)), ("a", ("worn", 3)), ("alike", "a", "b"),
+                     ("a", ("runs",))):
             desk.wish(wish)
         self.assert_broken(desk, 1, "ever", "put", "a", NEVER)
         self.assert_broken(desk, 0, "ever", "put", "b", NEVER)
@@ -472,10 +475,11 @@ class ErrorsTest(RaisingTestCase):
             self.assert_raised(UnknownName, "given", name, self.desk.named, name=name)
 
     def test_no_wish(self):
-        wrong = of_all_kinds() + [("alike",), ("alike", "a"), ("alike", "a", "b", "c"), ["alike", "a", "b"], ("Alike", "a", "b"),
-                                  ("a", "b", "c"), ("a", "alike", "b"), (None, "a", "b"), ["a", ("runs",)], ("a", ["runs"]),
-                                  ("a", ("runs",), 1), (("runs",), "a"), ("runs",), ("worn", 1), ("rest", 0, 1), ("a",),
-                                  ("a", ("alike", "a", "b")), ("a", ("alike", "b"))]
+        wrong = of_all_kinds() + [
+            ("alike",), ("alike", "a"), ("alike", "a", "b", "c"), ["alike", "a", "b"], ("Alike", "a", "b"),
+            ("a", "b", "c"), ("a", "alike", "b"), (None, "a", "b"), ["a", ("runs",)], ("a", ["runs"]), ("a", ("runs",), 1),
+            (("runs",), "a"), ("runs",), ("worn", 1), ("rest", 0, 1), ("a",), ("a", ("alike", "a", "b")),
+            ("a", ("alike", "b"))]
         wrong += [(name, wish) for wish in NO_WISHES for name in ("a", "d", None)]
         for wish in wrong:
             self.assert_raised(InvalidWish, "given", wish, self.desk.wish, wish)
@@ -509,7 +513,8 @@ class ErrorsTest(RaisingTestCase):
         self.assertEqual(vars(caught.exception), {})
 
     def test_refused_changes_are_none(self):
-        for word, given in (("put", ("b", NEVER)), ("put", ("a", TURNED)), ("wish", (("c", ("worn", 1)),)), ("drop", ("a",))):
+        for word, given in (("put", ("b", NEVER)), ("put", ("a", TURNED)), ("wish", (("c", ("worn", 1)),)),
+                            ("drop", ("a",))):
             self.assertIsNotNone(done(self.desk, word, given))
             self.assertEqual(told(self.desk), self.before)
 

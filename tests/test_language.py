@@ -30,14 +30,15 @@ LIBRARY = {
 # What may be called as a method of a value of Python's own, without the package having such a method.
 BUILTIN_METHODS = set("""
     append clear copy count endswith extend find get index insert isalnum isalpha isdigit islower isspace isupper items
-    join keys ljust lower lstrip partition pop remove replace reverse rfind rjust rpartition rsplit rstrip setdefault split
-    splitlines startswith strip update upper values zfill bit_length add discard
+    join keys ljust lower lstrip partition pop remove replace reverse rfind rjust rpartition rsplit rstrip setdefault
+    split splitlines startswith strip update upper values zfill bit_length add discard
 """.split())
 
 # Words that stand in no string and as no name.
 WORDS = set("""
-    register mro elements open input law version_info typing typing_extensions enum Enum IntEnum StrEnum Flag IntFlag Generic
-    Protocol ABC ABCMeta namedtuple NamedTuple TypedDict TYPE_CHECKING abstractmethod eval exec exit globals locals vars
+    register mro elements open input law version_info typing typing_extensions enum Enum IntEnum StrEnum Flag IntFlag
+    Generic Protocol ABC ABCMeta namedtuple NamedTuple TypedDict TYPE_CHECKING abstractmethod eval exec exit globals
+    locals vars
 """.split())
 
 BARRED = (ast.AsyncFunctionDef, ast.Await, ast.Global, ast.Import, ast.Div, ast.MatMult, ast.AsyncFor, ast.AsyncWith)
@@ -163,7 +164,7 @@ class WordsTest(unittest.TestCase):
     def test_no_generators_and_no_errors_of_python_caught(self):
         for place, node in nodes((ast.Yield, ast.YieldFrom, ast.GeneratorExp)):
             self.fail((place, node))
-        own = {node.name for name, tree in trees() if name == "errors.py" for node in tree.body if isinstance(node, ast.ClassDef)}
+        own = {node.name for _, tree in trees() for node in tree.body if isinstance(node, ast.ClassDef)}
         for place, node in nodes(ast.ExceptHandler):
             self.assertIn(ast.unparse(node.type), own, place)
 
@@ -173,7 +174,8 @@ class WordsTest(unittest.TestCase):
             for node in ast.walk(tree):
                 if isinstance(node, ast.Call) and isinstance(node.func, ast.Name) and node.func.id == "set":
                     around = above[node]
-                    self.assertTrue(isinstance(around, ast.Assign) or ast.unparse(around.func) in ("sorted", "len"), name)
+                    asked = isinstance(around, ast.Assign) or ast.unparse(around.func) in ("sorted", "len")
+                    self.assertTrue(asked, f"{name}:{node.lineno}")
 
     def test_names_with_two_underscores(self):
         for place, node in nodes(ast.FunctionDef):

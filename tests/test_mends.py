@@ -183,11 +183,12 @@ class MendingTest(unittest.TestCase):
             row = some_row(chooser, rule.plates)
             if index == 0 and chooser.randrange(5):
                 row = f"plates {chooser.choice((2, 3, 3, 4))} away {chooser.randint(0, 1)}"
-            exchanges.append((index, chooser.choice((row, row, row, row, row, row, row, rule.rows[index], "", row + " "))))
+            row = chooser.choice((row, row, row, row, row, row, row, rule.rows[index], "", row + " "))
+            exchanges.append((index, row))
         return tuple(exchanges)
 
     def some_wishes(self, chooser, rule, exchanges):
-        """Wishes drawn by lot, or one that at least the rule with all these exchanges, later ones over others, fulfils."""
+        """Wishes drawn by lot, or one that holds with all these exchanges, the later ones standing over the others."""
         if chooser.randrange(2):
             return tuple(some_wish(chooser, rule.plates) for _ in range(chooser.choice((0, 1, 1, 2, 2, 3))))
         goal = rule
@@ -238,8 +239,10 @@ class MendingTest(unittest.TestCase):
         rule = Rule("plates 3 away 0", "take 1 to 1 back top kept", "take 1 to 1 back top kept", "rest")
         bottom = "take 1 to 1 back bottom kept"
         exchanges = ((1, bottom), (2, bottom), (3, bottom), (0, "plates 2 away 0"))
-        self.assertEqual(mending(rule, exchanges, (("rest", 1, 3),)), PlainFaults().mending(rule, exchanges, (("rest", 1, 3),)))
-        self.assertEqual(mending(rule, exchanges[:2], (("alike", Rule(rule.rows[0], bottom, bottom, "rest")),)), ((0, 1),))
+        wishes = (("rest", 1, 3),)
+        self.assertEqual(mending(rule, exchanges, wishes), PlainFaults().mending(rule, exchanges, wishes))
+        goal = Rule(rule.rows[0], bottom, bottom, "rest")
+        self.assertEqual(mending(rule, exchanges[:2], (("alike", goal),)), ((0, 1),))
 
     def test_plates_that_the_mended_rule_lacks(self):
         few = ((0, "plates 2 away 0"), (0, "plates 4 away 0"))
@@ -291,13 +294,15 @@ class ErrorsTest(RaisingTestCase):
     def test_the_first_that_is_no_exchange(self):
         wrong = of_all_kinds() + [(1,), (1, "rest", 1), [1, "rest"], ("rest", 1), (None, "rest")]
         wrong += [(index, "rest") for index in NO_INTEGERS + [-1, 2, 3, GREAT]]
-        wrong += [(1, row) for row in of_all_kinds() if not isinstance(row, str)] + [(1, ("rest",)), (0, b"plates 2 away 0")]
+        wrong += [(1, row) for row in of_all_kinds() if not isinstance(row, str)]
+        wrong += [(1, ("rest",)), (0, b"plates 2 away 0")]
         for value in wrong:
             if value == (1, "rest"):
                 continue
             for wishes in ((), None):
                 self.assert_raised(InvalidExchanges, "index", 0, mending, WHEEL, (value,), wishes)
-                self.assert_raised(InvalidExchanges, "index", 2, mending, WHEEL, ((0, ""), (1, "x"), value, None), wishes)
+                exchanges = ((0, ""), (1, "x"), value, None)
+                self.assert_raised(InvalidExchanges, "index", 2, mending, WHEEL, exchanges, wishes)
         three = UNDER
         self.assertEqual(mending(three, ((2, "rest"),), ()), ((),))
         self.assert_raised(InvalidExchanges, "index", 0, mending, three, ((3, "rest"),), ())

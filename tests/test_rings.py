@@ -157,9 +157,9 @@ class RulesTest(unittest.TestCase):
 class EdgesTest(unittest.TestCase):
     def test_one_plate_alone(self):
         self.assertEqual([ring_uses(1, total, 0) for total in (0, 1, 7, GREATEST)], [0, 1, 7, GREATEST])
-        self.assertEqual([ring_rest(1, takes) for takes in (((1, 1),), ((0, 1),), ((0, 0), (1, 1)), ((0, 1),) * 5 + ((1, 1),))],
-                         [0, None, 1, 5])
-        self.assertEqual([ring_shares(1, takes) for takes in (((1, 1),), ((0, 1),), ((0, 0), (1, 1)))],
+        rings = (((1, 1),), ((0, 1),), ((0, 0), (1, 1)), ((0, 1),) * 5 + ((1, 1),))
+        self.assertEqual([ring_rest(1, takes) for takes in rings], [0, None, 1, 5])
+        self.assertEqual([ring_shares(1, takes) for takes in rings[:3]],
                          [((1, 1), (1, 1)), ((0, 1), (1, 1)), ((1, 2), (1, 2))])
 
     def test_none_and_all(self):
@@ -177,7 +177,8 @@ class EdgesTest(unittest.TestCase):
         told = [ring_uses(3, 4, 0), ring_rest(3, ((1, 2),)), ring_lead(3, ((1, 2),), 0, 1)]
         told += [number for fraction in ring_shares(3, ((1, 2),)) for number in fraction]
         self.assertEqual({value.__class__ for value in told}, {int})
-        self.assertEqual({value.__class__ for value in (ring_shares(3, ((1, 2),)), *ring_shares(3, ((1, 2),)))}, {tuple})
+        shares = ring_shares(3, ((1, 2),))
+        self.assertEqual({value.__class__ for value in (shares, *shares)}, {tuple})
 
     def test_by_name_and_again(self):
         for _ in range(2):
@@ -255,7 +256,8 @@ class GreatTest(unittest.TestCase):
                         told = ring_lead(n, ((number, number),), plate, mate)
                         self.assertEqual(told, int(mate // step > plate // step), (n, number, plate, mate))
         # A second row moves the tops by what the first one takes.
-        for plate, mate, lead in ((0, 1, 0), (1, 2, 0), (2, 3, 1), (3, 9, 0), (3, 10, 1), (9, 10, 1), (10, 12, 0), (12, 13, 1)):
+        for plate, mate, lead in ((0, 1, 0), (1, 2, 0), (2, 3, 1), (3, 9, 0), (3, 10, 1), (9, 10, 1), (10, 12, 0),
+                                  (12, 13, 1)):
             self.assertEqual(ring_lead(GREAT, ((3, 3), (7, 7)), plate, mate), lead, (plate, mate))
         self.assertEqual(ring_lead(GREAT, ((3, 3), (6, 7)), 10, 11), 1)
 
@@ -296,8 +298,9 @@ class ErrorsTest(RaisingTestCase):
         self.assertEqual(ring_rest(3, ((1, 1),) * 6), 2)
 
     def test_the_first_that_is_no_pair(self):
-        wrong = of_all_kinds() + [(1,), (1, 2, 3), [1, 2], (2, 1), (-1, 1), (0, 4), (4, 4), (-2, -1), (None, 1), (1, "2"),
-                                  (True, 2), (0, True), (False, False), (1, (2,)), ((1, 2),), GREATEST, (0, GREATEST)]
+        wrong = of_all_kinds() + [
+            (1,), (1, 2, 3), [1, 2], (2, 1), (-1, 1), (0, 4), (4, 4), (-2, -1), (None, 1), (1, "2"), (True, 2), (0, True),
+            (False, False), (1, (2,)), ((1, 2),), GREATEST, (0, GREATEST)]
         for value in wrong:
             self.assert_no_takes(0, 3, (value,))
             self.assert_no_takes(1, 3, ((0, 3), value))
