@@ -58,8 +58,17 @@ class Desk:
     """Rules under names, and wishes, at first none."""
 
     def __init__(self):
-        # The trials take this state again, too.
-        self.state = State({}, (), None)
+        self._become(State({}, (), None))
+
+    def _become(self, state):
+        # The state of now is one of these, at this place: a trial that goes back to one tells all that it holds.
+        self.states = (state,)
+        self.place = 0
+
+    @property
+    def state(self):
+        """What the desk is now."""
+        return self.states[self.place]
 
     def put(self, name, rule):
         """Puts a rule under a name, also in the place of another one."""
@@ -75,7 +84,7 @@ class Desk:
                 shown = shown_at(rules, wished[index])
                 if shown is not None:
                     raise Broken(index, shown)
-        self.state = State(rules, wished, self.state)
+        self._become(State(rules, wished, self.state))
 
     def named(self, name):
         """The rule with this name."""
@@ -91,7 +100,7 @@ class Desk:
                 raise InUse(index)
         rules = dict(self.state.rules)
         del rules[name]
-        self.state = State(rules, wished, self.state)
+        self._become(State(rules, wished, self.state))
 
     def wish(self, wish):
         """A wish more, behind the others."""
@@ -104,19 +113,19 @@ class Desk:
         shown = shown_at(rules, wish)
         if shown is not None:
             raise Broken(len(wished), shown)
-        self.state = State(rules, (*wished, wish), self.state)
+        self._become(State(rules, (*wished, wish), self.state))
 
     def lift(self, index):
         """Takes the wish with this index away."""
         wished = self.state.wished
         check_within(index, 0, len(wished) - 1)
-        self.state = State(self.state.rules, wished[:index] + wished[index + 1:], self.state)
+        self._become(State(self.state.rules, wished[:index] + wished[index + 1:], self.state))
 
     def undo(self):
         """Takes back the last change that has not been taken back."""
         if self.state.ahead is None:
             raise NothingToUndo()
-        self.state = self.state.ahead
+        self._become(self.state.ahead)
 
     def trial(self):
         """For a with statement: if its rows end with an exception, the desk is then as it was when they began."""

@@ -1,36 +1,26 @@
 """Trials of a desk: what is done in one stays only if it ends well."""
 
 
-class Held:
-    """What a desk was when rows of a trial began, and what is held for the rows around these."""
-
-    def __init__(self, now, around):
-        self.now = now
-        self.around = around
-
-
 class Trial:
     """Rows that leave a desk as it was when they began if they end with an exception."""
 
     def __init__(self, desk):
         self._desk = desk
-        # What the desk was when the innermost of these rows began; one trial may stand within itself.
-        self._now = None
-        self._around = None
+        # What the desk was when rows began, the outermost first, since one trial may stand within itself. As many
+        # of these rows as the depth have not ended; what stands behind them is of rows that have.
+        self._states = ()
+        self._depth = 0
 
     def __enter__(self):
-        self._around = Held(self._now, self._around)
-        self._now = self._desk.state
-        return self._desk
+        desk = self._desk
+        self._states = self._states[:self._depth] + (desk.state,)
+        self._depth += 1
+        return desk
 
     def __exit__(self, kind, value, trace):
         desk = self._desk
+        self._depth -= 1
         if kind is not None:
-            desk.state = self._now
-        self.shut()
-
-    def shut(self):
-        # What is held for the rows around is the innermost again.
-        around = self._around
-        self._now = around.now
-        self._around = around.around
+            # No item is looked up at the end of a with statement: the desk itself does so, at this place.
+            desk.states = self._states
+            desk.place = self._depth

@@ -409,6 +409,85 @@ class TrialTest(unittest.TestCase):
                 raise Stopped()
         self.assertEqual((self.desk.names, self.desk.changes), (("a",), 2))
 
+    def test_one_object_often_within_itself(self):
+        for ends in range(2 ** 6):
+            trial, fails = self.desk.trial(), [bool(ends >> at & 1) for at in range(6)]
+            self.one_within(trial, fails)
+            # The same object again, behind rows of it that have ended in one way or the other.
+            self.one_within(trial, fails[::-1])
+
+    def one_within(self, trial, fails):
+        """Rows of this object within one another, from the outermost on those with True end with an exception."""
+        if not fails:
+            return
+        before, end = told(self.desk), None
+        try:
+            with trial:
+                self.desk.put("b", NEVER)
+                self.one_within(trial, fails[1:])
+                self.desk.undo()
+                self.one_within(trial, fails[2:])
+                self.desk.put("c", OUT)
+                end = told(self.desk)
+                if fails[0]:
+                    raise Stopped()
+        except Stopped:
+            self.assertTrue(fails[0])
+        self.assertEqual(told(self.desk), before if fails[0] else end)
+
+    def test_one_object_deep_within_itself(self):
+        trial, steps = self.desk.trial(), []
+        for _ in range(200):
+            steps.append(told(self.desk))
+            trial.__enter__()
+            self.desk.put("b", NEVER)
+        for at in range(199, -1, -1):
+            before = told(self.desk)
+            kind = Stopped if at in (150, 149, 70) else None
+            self.assertFalse(trial.__exit__(kind, None if kind is None else kind(), None))
+            self.assertEqual(told(self.desk), steps[at] if kind else before)
+        self.assertEqual(told(self.desk), steps[70])
+
+    def test_one_exception_through_all_rows_of_one_object(self):
+        trial, before = self.desk.trial(), told(self.desk)
+        with self.assertRaises(Broken):
+            with trial:
+                self.desk.put("b", WHEEL)
+                with trial, trial:
+                    self.desk.drop("b")
+                    with trial:
+                        self.desk.put("a", NEVER)
+        self.assertEqual(told(self.desk), before)
+
+    def test_changes_behind_rows_that_ended_with_an_exception(self):
+        trial = self.desk.trial()
+        with trial:
+            with self.assertRaises(Stopped):
+                with trial:
+                    self.desk.put("b", NEVER)
+                    raise Stopped()
+            self.desk.undo()
+            self.assertEqual(told(self.desk), [("a",), (), 1, 1, [WHEEL]])
+            self.desk.put("c", OUT)
+        self.assertEqual(told(self.desk), [("a", "c"), (), 2, 2, [WHEEL, OUT]])
+        self.desk.undo()
+        self.desk.undo()
+        self.assertEqual(told(self.desk), [(), (), 0, 0, []])
+        self.assertRaises(NothingToUndo, self.desk.undo)
+
+    def test_rows_of_two_objects_that_overlap(self):
+        first, second = self.desk.trial(), self.desk.trial()
+        before = told(self.desk)
+        first.__enter__()
+        self.desk.put("b", NEVER)
+        between = told(self.desk)
+        second.__enter__()
+        self.desk.put("c", NEVER)
+        self.assertFalse(first.__exit__(Stopped, Stopped(), None))
+        self.assertEqual(told(self.desk), before)
+        self.assertFalse(second.__exit__(Stopped, Stopped(), None))
+        self.assertEqual(told(self.desk), between)
+
     def test_tried(self):
         self.assertEqual(self.desk.tried(lambda desk: desk.put("b", NEVER)), None)
         self.assertEqual(self.desk.tried(lambda desk: (desk is self.desk, len(desk))), (True, 2))
